@@ -1,0 +1,111 @@
+// Package twig: keys and values in versions, with digests, proofs and chunks: see DOC.md.
+package twig
+
+import (
+	"twig/api"
+	"twig/bounds"
+	"twig/digest"
+	"twig/wire"
+)
+
+// Store is keys and values, in versions.
+type Store struct{}
+
+// Import takes chunks in.
+type Import struct{}
+
+// Digest is the digest of some bytes (P3).
+func Digest(width int, b string) (int, api.Errno) {
+	if !bounds.Width(width) {
+		return 0, api.ErrWidth
+	}
+	return digest.Of(width, b), api.OK
+}
+
+// EncodeNode writes a node (P4).
+func EncodeNode(n api.Node) (string, api.Errno) {
+	b, err := wire.EncodeNode(n)
+	return b, errno(err)
+}
+
+// DecodeNode reads a node (P4).
+func DecodeNode(b string) (api.Node, api.Errno) {
+	n, err := wire.DecodeNode(b)
+	return n, errno(err)
+}
+
+// EncodeProof writes a proof (P4).
+func EncodeProof(p api.Proof) (string, api.Errno) {
+	b, err := wire.EncodeProof(p)
+	return b, errno(err)
+}
+
+// DecodeProof reads a proof (P4).
+func DecodeProof(b string) (api.Proof, api.Errno) {
+	p, err := wire.DecodeProof(b)
+	return p, errno(err)
+}
+
+// EncodeManifest writes a manifest (P4).
+func EncodeManifest(m api.Manifest) (string, api.Errno) {
+	b, err := wire.EncodeManifest(m)
+	return b, errno(err)
+}
+
+// DecodeManifest reads a manifest (P4).
+func DecodeManifest(b string) (api.Manifest, api.Errno) {
+	m, err := wire.DecodeManifest(b)
+	return m, errno(err)
+}
+
+// New makes an empty store (P5).
+func New(width int) (*Store, api.Errno) { return nil, api.OK }
+
+// Set gives a key a value (P6).
+func (s *Store) Set(key string, value string) api.Errno { return api.OK }
+
+// Delete takes a key's value away (P6).
+func (s *Store) Delete(key string) api.Errno { return api.OK }
+
+// Get tells a key's value (P6).
+func (s *Store) Get(key string) (string, api.Errno) { return "", api.OK }
+
+// Commit makes a version (P7).
+func (s *Store) Commit() (int, int, api.Errno) { return 0, 0, api.OK }
+
+// Load goes back to a version (P7).
+func (s *Store) Load(version int) api.Errno { return api.OK }
+
+// Prune forgets a version (P7).
+func (s *Store) Prune(version int) api.Errno { return api.OK }
+
+// Root tells a version's root (P8).
+func (s *Store) Root(version int) (int, api.Errno) { return 0, api.OK }
+
+// Walk tells a version's keys and values (P8).
+func (s *Store) Walk(version int) ([]api.Pair, api.Errno) { return nil, api.OK }
+
+// Prove makes a program that proves what a key has (P9).
+func (s *Store) Prove(version int, key string) (string, api.Errno) { return "", api.OK }
+
+// Verify runs a program (P10).
+func Verify(width int, root int, key string, there bool, value string, program string) api.Errno {
+	return api.OK
+}
+
+// Collide finds two texts with one digest, where a program proves what is not so (P11).
+func (s *Store) Collide(version int, key string, program string) (string, string, api.Errno) {
+	return "", "", api.OK
+}
+
+// Export tells a version as a manifest and chunks (P12).
+func (s *Store) Export(version int, size int) (string, []string, api.Errno) { return "", nil, api.OK }
+
+// NewImport begins to take chunks in (P13).
+func NewImport(manifest string) (*Import, api.Errno) { return nil, api.OK }
+
+// Offer hands a chunk in (P13).
+func (i *Import) Offer(index int, chunk string) api.Errno { return api.OK }
+
+// Finish makes a store of the chunks (P14).
+func (i *Import) Finish() (*Store, api.Errno) { return nil, api.OK }

@@ -1,0 +1,164 @@
+package wire
+
+import (
+	"encoding/hex"
+	"errors"
+	"strings"
+	"testing"
+
+	"twig/api"
+)
+
+func hx(s string) string {
+	b, err := hex.DecodeString(strings.ReplaceAll(s, " ", ""))
+	if err != nil {
+		panic(err)
+	}
+	return string(b)
+}
+
+func node(b string) error {
+	_, err := DecodeNode(b)
+	return err
+}
+
+func proof(b string) error {
+	_, err := DecodeProof(b)
+	return err
+}
+
+func manifest(b string) error {
+	_, err := DecodeManifest(b)
+	return err
+}
+
+// TestWays: for each way in which bytes can be wrong its own error, and where it was met.
+func TestWays(t *testing.T) {
+	for _, c := range []struct {
+		decode func(string) error
+		b      string
+		way    error
+		place  string
+	}{
+		{node, "", ErrShort, "node: kind"},
+		{node, "00", ErrShort, "node: path: number of bits"},
+		{node, "00 8a", ErrShort, "node: path: number of bits"},
+		{node, "00 0a a0", ErrShort, "node: path: bits"},
+		{node, "00 00", ErrShort, "node: value: number of bytes"},
+		{node, "00 00 02 78", ErrShort, "node: value: bytes"},
+		{node, "01 00 00 00 00", ErrShort, "node: left"},
+		{node, "01 00 00 00 00 05 00 00 00", ErrShort, "node: right"},
+		{node, "02 00", ErrOver, "node: end"},
+		{node, "00 8a 00 a0 80 01 78", ErrLong, "node: path: number of bits"},
+		{node, "00 00 80 00", ErrLong, "node: value: number of bytes"},
+		{node, "00 80 80 80 00", ErrLong, "node: path: number of bits"},
+		{node, "00 80 80 80 80 00", ErrBig, "node: path: number of bits"},
+		{node, "00 ff ff ff ff 7f", ErrBig, "node: path: number of bits"},
+		{node, "00 0a a0 81 01 78", ErrPadding, "node: path: bits"},
+		{node, "01 03 b0 00 00 00 05 00 00 00 06", ErrPadding, "node: path: bits"},
+		{node, "03", ErrKind, "node: kind"},
+		{node, "ff", ErrKind, "node: kind"},
+		{node, "00 26 ff ff ff ff fc 00", ErrBits, "node: path: number of bits"},
+		{node, "00 ff ff ff 7f", ErrBits, "node: path: number of bits"},
+		{node, "00 00 15" + strings.Repeat("76", 21), ErrValue, "node: value: number of bytes"},
+		{proof, "", ErrShort, "proof: bottom: number of bytes"},
+		{proof, "02 02", ErrShort, "proof: bottom: bytes"},
+		{proof, "00 00", ErrShort, "proof: bottom: node: kind"},
+		{proof, "02 02 00 00", ErrOver, "proof: bottom: node: end"},
+		{proof, "01 03 00", ErrKind, "proof: bottom: node: kind"},
+		{proof, "81 00 02 00", ErrLong, "proof: bottom: number of bytes"},
+		{proof, "01 02", ErrShort, "proof: number of steps"},
+		{proof, "01 02 80 00", ErrLong, "proof: number of steps"},
+		{proof, "01 02 26" + strings.Repeat("00 00 00 00 00 00", 38), ErrSteps, "proof: number of steps"},
+		{proof, "01 02 01", ErrShort, "proof: step 0: side"},
+		{proof, "01 02 01 02 00 00 00 00 00", ErrSide, "proof: step 0: side"},
+		{proof, "01 02 02 00 00 00 00 00 00 01 01 c0 00 00 00 00", ErrPadding, "proof: step 1: path: bits"},
+		{proof, "01 02 01 00 00 00 00 00", ErrShort, "proof: step 0: other"},
+		{proof, "01 02 00 00", ErrOver, "proof: end"},
+		{manifest, "", ErrShort, "manifest: width"},
+		{manifest, "00 00 00 00 00 08 01 00 00 00 00", ErrWidth, "manifest: width"},
+		{manifest, "21 00 00 00 00 08 01 00 00 00 00", ErrWidth, "manifest: width"},
+		{manifest, "08 00 00 00", ErrShort, "manifest: root"},
+		{manifest, "08 00 00 01 00 08 01 00 00 00 00", ErrDigest, "manifest: root"},
+		{manifest, "08 00 00 00 00", ErrShort, "manifest: size"},
+		{manifest, "08 00 00 00 00 00 01", ErrSize, "manifest: size"},
+		{manifest, "08 00 00 00 00 07 01 00 00 00 00", ErrSize, "manifest: size"},
+		{manifest, "08 00 00 00 00 e9 07 01 00 00 00 00", ErrSize, "manifest: size"},
+		{manifest, "08 00 00 00 00 88 00 01 00 00 00 00", ErrLong, "manifest: size"},
+		{manifest, "08 00 00 00 00 08", ErrShort, "manifest: total"},
+		{manifest, "08 00 00 00 00 08 00", ErrTotal, "manifest: total"},
+		{manifest, "08 00 00 00 00 08 a1 8d 06", ErrTotal, "manifest: total"},
+		{manifest, "08 00 00 00 00 08 ff ff ff ff 00", ErrBig, "manifest: total"},
+		{manifest, "08 00 00 00 00 08 09 00 00 00 00 00 00 01 00", ErrDigest, "manifest: digest 1"},
+		{manifest, "08 00 00 00 00 08 09 00 00 00 00 00 00 00", ErrShort, "manifest: digest 1"},
+		{manifest, "08 00 00 00 00 08 08 00 00 00 00 00 00 00 00", ErrOver, "manifest: end"},
+	} {
+		err := c.decode(hx(c.b))
+		if !errors.Is(err, c.way) {
+			t.Errorf("%s: %v, want %v", c.b, err, c.way)
+			continue
+		}
+		if want := c.place + ": " + c.way.Error(); err.Error() != want {
+			t.Errorf("%s: %q, want %q", c.b, err.Error(), want)
+		}
+		if errors.Is(err, ErrNoBytes) {
+			t.Errorf("%s: taken for what has no bytes", c.b)
+		}
+	}
+}
+
+// TestNoBytes: what can't be written is told with the place, too.
+func TestNoBytes(t *testing.T) {
+	encode := func(_ string, err error) error { return err }
+	m := api.Manifest{Width: 8, Root: 1, Size: 8, Total: 16, Digests: []int{1, 256}}
+	wrong := api.Node{Kind: 3}
+	empty := api.Node{Kind: api.Empty}
+	for place, err := range map[string]error{
+		"node: kind":                   encode(EncodeNode(wrong)),
+		"node: fields of another kind": encode(EncodeNode(api.Node{Right: 1})),
+		"node: path":                   encode(EncodeNode(api.Node{Path: "2"})),
+		"node: value":                  encode(EncodeNode(api.Node{Value: strings.Repeat("v", 21)})),
+		"node: left":                   encode(EncodeNode(api.Node{Kind: api.Branch, Left: -1})),
+		"node: right":                  encode(EncodeNode(api.Node{Kind: api.Branch, Right: 1 << 32})),
+		"proof: bottom: node: kind":    encode(EncodeProof(api.Proof{Bottom: wrong})),
+		"proof: number of steps":       encode(EncodeProof(api.Proof{Bottom: empty, Ups: make([]api.Up, 38)})),
+		"proof: step 1: side":          encode(EncodeProof(api.Proof{Bottom: empty, Ups: []api.Up{{}, {Side: 2}}})),
+		"proof: step 0: path":          encode(EncodeProof(api.Proof{Bottom: empty, Ups: []api.Up{{Path: "x"}}})),
+		"proof: step 0: other":         encode(EncodeProof(api.Proof{Bottom: empty, Ups: []api.Up{{Other: -1}}})),
+		"manifest: width":              encode(EncodeManifest(api.Manifest{})),
+		"manifest: root":               encode(EncodeManifest(api.Manifest{Width: 1, Root: 2})),
+		"manifest: size":               encode(EncodeManifest(api.Manifest{Width: 1})),
+		"manifest: total":              encode(EncodeManifest(api.Manifest{Width: 1, Size: 8})),
+		"manifest: number of digests":  encode(EncodeManifest(api.Manifest{Width: 1, Size: 8, Total: 8})),
+		"manifest: digest 1":           encode(EncodeManifest(m)),
+	} {
+		if want := place + ": " + ErrNoBytes.Error(); err == nil || err.Error() != want || !errors.Is(err, ErrNoBytes) {
+			t.Errorf("%v, want %q", err, want)
+		}
+	}
+}
+
+func TestNumbers(t *testing.T) {
+	for n, b := range map[int]string{
+		0: "00", 1: "01", 127: "7f",
+		128: "80 01", 300: "ac 02", 16383: "ff 7f",
+		16384: "80 80 01", 100000: "a0 8d 06", 1<<21 - 1: "ff ff 7f",
+		1 << 21: "80 80 80 01", 1<<28 - 1: "ff ff ff 7f",
+	} {
+		if got := string(addNumber(nil, n)); got != hx(b) {
+			t.Errorf("%d is written %x, want %s", n, got, b)
+		}
+		r := reader{hx(b) + "\x05"}
+		if got, err := r.number(); got != n || err != nil || r.rest != "\x05" {
+			t.Errorf("%s is read as %d, %v, with %x left", b, got, err, r.rest)
+		}
+	}
+}
+
+func TestChunks(t *testing.T) {
+	for _, c := range [][3]int{{1, 8, 1}, {8, 8, 1}, {9, 8, 2}, {16, 8, 2}, {300, 128, 3}, {100000, 8, 12500}, {100000, 999, 101}, {100000, 1000, 100}} {
+		if got := Chunks(c[0], c[1]); got != c[2] {
+			t.Errorf("Chunks(%d, %d) = %d, want %d", c[0], c[1], got, c[2])
+		}
+	}
+}
