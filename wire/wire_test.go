@@ -32,68 +32,89 @@ func manifest(b string) error {
 	return err
 }
 
+type wayCase struct {
+	b     string
+	way   error
+	place string
+}
+
+func nodeWays() []wayCase {
+	return []wayCase{
+		{"", ErrShort, "node: kind"},
+		{"00", ErrShort, "node: path: number of bits"},
+		{"00 8a", ErrShort, "node: path: number of bits"},
+		{"00 0a a0", ErrShort, "node: path: bits"},
+		{"00 00", ErrShort, "node: value: number of bytes"},
+		{"00 00 02 78", ErrShort, "node: value: bytes"},
+		{"01 00 00 00 00", ErrShort, "node: left"},
+		{"01 00 00 00 00 05 00 00 00", ErrShort, "node: right"},
+		{"02 00", ErrOver, "node: end"},
+		{"00 8a 00 a0 80 01 78", ErrLong, "node: path: number of bits"},
+		{"00 00 80 00", ErrLong, "node: value: number of bytes"},
+		{"00 80 80 80 00", ErrLong, "node: path: number of bits"},
+		{"00 80 80 80 80 00", ErrBig, "node: path: number of bits"},
+		{"00 ff ff ff ff 7f", ErrBig, "node: path: number of bits"},
+		{"00 0a a0 81 01 78", ErrPadding, "node: path: bits"},
+		{"01 03 b0 00 00 00 05 00 00 00 06", ErrPadding, "node: path: bits"},
+		{"03", ErrKind, "node: kind"},
+		{"ff", ErrKind, "node: kind"},
+		{"00 26 ff ff ff ff fc 00", ErrBits, "node: path: number of bits"},
+		{"00 ff ff ff 7f", ErrBits, "node: path: number of bits"},
+		{"00 00 15" + strings.Repeat("76", 21), ErrValue, "node: value: number of bytes"},
+	}
+}
+
+func proofWays() []wayCase {
+	return []wayCase{
+		{"", ErrShort, "proof: bottom: number of bytes"},
+		{"02 02", ErrShort, "proof: bottom: bytes"},
+		{"00 00", ErrShort, "proof: bottom: node: kind"},
+		{"02 02 00 00", ErrOver, "proof: bottom: node: end"},
+		{"01 03 00", ErrKind, "proof: bottom: node: kind"},
+		{"81 00 02 00", ErrLong, "proof: bottom: number of bytes"},
+		{"01 02", ErrShort, "proof: number of steps"},
+		{"01 02 80 00", ErrLong, "proof: number of steps"},
+		{"01 02 26" + strings.Repeat("00 00 00 00 00 00", 38), ErrSteps, "proof: number of steps"},
+		{"01 02 01", ErrShort, "proof: step 0: side"},
+		{"01 02 01 02 00 00 00 00 00", ErrSide, "proof: step 0: side"},
+		{"01 02 02 00 00 00 00 00 00 01 01 c0 00 00 00 00", ErrPadding, "proof: step 1: path: bits"},
+		{"01 02 01 00 00 00 00 00", ErrShort, "proof: step 0: other"},
+		{"01 02 00 00", ErrOver, "proof: end"},
+	}
+}
+
+func manifestWays() []wayCase {
+	return []wayCase{
+		{"", ErrShort, "manifest: width"},
+		{"00 00 00 00 00 08 01 00 00 00 00", ErrWidth, "manifest: width"},
+		{"21 00 00 00 00 08 01 00 00 00 00", ErrWidth, "manifest: width"},
+		{"08 00 00 00", ErrShort, "manifest: root"},
+		{"08 00 00 01 00 08 01 00 00 00 00", ErrDigest, "manifest: root"},
+		{"08 00 00 00 00", ErrShort, "manifest: size"},
+		{"08 00 00 00 00 00 01", ErrSize, "manifest: size"},
+		{"08 00 00 00 00 07 01 00 00 00 00", ErrSize, "manifest: size"},
+		{"08 00 00 00 00 e9 07 01 00 00 00 00", ErrSize, "manifest: size"},
+		{"08 00 00 00 00 88 00 01 00 00 00 00", ErrLong, "manifest: size"},
+		{"08 00 00 00 00 08", ErrShort, "manifest: total"},
+		{"08 00 00 00 00 08 00", ErrTotal, "manifest: total"},
+		{"08 00 00 00 00 08 a1 8d 06", ErrTotal, "manifest: total"},
+		{"08 00 00 00 00 08 ff ff ff ff 00", ErrBig, "manifest: total"},
+		{"08 00 00 00 00 08 09 00 00 00 00 00 00 01 00", ErrDigest, "manifest: digest 1"},
+		{"08 00 00 00 00 08 09 00 00 00 00 00 00 00", ErrShort, "manifest: digest 1"},
+		{"08 00 00 00 00 08 08 00 00 00 00 00 00 00 00", ErrOver, "manifest: end"},
+	}
+}
+
 // TestWays: for each way in which bytes can be wrong its own error, and where it was met.
 func TestWays(t *testing.T) {
-	for _, c := range []struct {
-		decode func(string) error
-		b      string
-		way    error
-		place  string
-	}{
-		{node, "", ErrShort, "node: kind"},
-		{node, "00", ErrShort, "node: path: number of bits"},
-		{node, "00 8a", ErrShort, "node: path: number of bits"},
-		{node, "00 0a a0", ErrShort, "node: path: bits"},
-		{node, "00 00", ErrShort, "node: value: number of bytes"},
-		{node, "00 00 02 78", ErrShort, "node: value: bytes"},
-		{node, "01 00 00 00 00", ErrShort, "node: left"},
-		{node, "01 00 00 00 00 05 00 00 00", ErrShort, "node: right"},
-		{node, "02 00", ErrOver, "node: end"},
-		{node, "00 8a 00 a0 80 01 78", ErrLong, "node: path: number of bits"},
-		{node, "00 00 80 00", ErrLong, "node: value: number of bytes"},
-		{node, "00 80 80 80 00", ErrLong, "node: path: number of bits"},
-		{node, "00 80 80 80 80 00", ErrBig, "node: path: number of bits"},
-		{node, "00 ff ff ff ff 7f", ErrBig, "node: path: number of bits"},
-		{node, "00 0a a0 81 01 78", ErrPadding, "node: path: bits"},
-		{node, "01 03 b0 00 00 00 05 00 00 00 06", ErrPadding, "node: path: bits"},
-		{node, "03", ErrKind, "node: kind"},
-		{node, "ff", ErrKind, "node: kind"},
-		{node, "00 26 ff ff ff ff fc 00", ErrBits, "node: path: number of bits"},
-		{node, "00 ff ff ff 7f", ErrBits, "node: path: number of bits"},
-		{node, "00 00 15" + strings.Repeat("76", 21), ErrValue, "node: value: number of bytes"},
-		{proof, "", ErrShort, "proof: bottom: number of bytes"},
-		{proof, "02 02", ErrShort, "proof: bottom: bytes"},
-		{proof, "00 00", ErrShort, "proof: bottom: node: kind"},
-		{proof, "02 02 00 00", ErrOver, "proof: bottom: node: end"},
-		{proof, "01 03 00", ErrKind, "proof: bottom: node: kind"},
-		{proof, "81 00 02 00", ErrLong, "proof: bottom: number of bytes"},
-		{proof, "01 02", ErrShort, "proof: number of steps"},
-		{proof, "01 02 80 00", ErrLong, "proof: number of steps"},
-		{proof, "01 02 26" + strings.Repeat("00 00 00 00 00 00", 38), ErrSteps, "proof: number of steps"},
-		{proof, "01 02 01", ErrShort, "proof: step 0: side"},
-		{proof, "01 02 01 02 00 00 00 00 00", ErrSide, "proof: step 0: side"},
-		{proof, "01 02 02 00 00 00 00 00 00 01 01 c0 00 00 00 00", ErrPadding, "proof: step 1: path: bits"},
-		{proof, "01 02 01 00 00 00 00 00", ErrShort, "proof: step 0: other"},
-		{proof, "01 02 00 00", ErrOver, "proof: end"},
-		{manifest, "", ErrShort, "manifest: width"},
-		{manifest, "00 00 00 00 00 08 01 00 00 00 00", ErrWidth, "manifest: width"},
-		{manifest, "21 00 00 00 00 08 01 00 00 00 00", ErrWidth, "manifest: width"},
-		{manifest, "08 00 00 00", ErrShort, "manifest: root"},
-		{manifest, "08 00 00 01 00 08 01 00 00 00 00", ErrDigest, "manifest: root"},
-		{manifest, "08 00 00 00 00", ErrShort, "manifest: size"},
-		{manifest, "08 00 00 00 00 00 01", ErrSize, "manifest: size"},
-		{manifest, "08 00 00 00 00 07 01 00 00 00 00", ErrSize, "manifest: size"},
-		{manifest, "08 00 00 00 00 e9 07 01 00 00 00 00", ErrSize, "manifest: size"},
-		{manifest, "08 00 00 00 00 88 00 01 00 00 00 00", ErrLong, "manifest: size"},
-		{manifest, "08 00 00 00 00 08", ErrShort, "manifest: total"},
-		{manifest, "08 00 00 00 00 08 00", ErrTotal, "manifest: total"},
-		{manifest, "08 00 00 00 00 08 a1 8d 06", ErrTotal, "manifest: total"},
-		{manifest, "08 00 00 00 00 08 ff ff ff ff 00", ErrBig, "manifest: total"},
-		{manifest, "08 00 00 00 00 08 09 00 00 00 00 00 00 01 00", ErrDigest, "manifest: digest 1"},
-		{manifest, "08 00 00 00 00 08 09 00 00 00 00 00 00 00", ErrShort, "manifest: digest 1"},
-		{manifest, "08 00 00 00 00 08 08 00 00 00 00 00 00 00 00", ErrOver, "manifest: end"},
-	} {
-		err := c.decode(hx(c.b))
+	wayTest(t, node, nodeWays())
+	wayTest(t, proof, proofWays())
+	wayTest(t, manifest, manifestWays())
+}
+
+func wayTest(t *testing.T, decode func(string) error, cases []wayCase) {
+	for _, c := range cases {
+		err := decode(hx(c.b))
 		if !errors.Is(err, c.way) {
 			t.Errorf("%s: %v, want %v", c.b, err, c.way)
 			continue
