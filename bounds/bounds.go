@@ -7,7 +7,8 @@ import (
 	"twig/api"
 )
 
-func within(n, low, high int) bool { return n == min(max(n, low), high) }
+// within holds for no number where high is below low.
+func within(n, low, high int) bool { return max(n, low) == min(n, high) }
 
 // Width tells whether digests may have so many bits.
 func Width(n int) bool { return within(n, 1, api.MaxWidth) }
@@ -24,6 +25,9 @@ func Bits(n int) bool { return within(n, 0, api.MaxBits) }
 // Path tells whether the text is a path.
 func Path(s string) bool { return Bits(len(s)) && strings.Trim(s, "01") == "" }
 
+// Key tells whether a key may have so many bytes.
+func Key(n int) bool { return within(n, 1, api.MaxKey) }
+
 // Length tells whether a value may have so many bytes.
 func Length(n int) bool { return within(n, 0, api.MaxValue) }
 
@@ -38,3 +42,6 @@ func Size(n int) bool { return within(n, api.MinChunk, api.MaxChunk) }
 
 // Total tells whether all chunks together may have so many bytes.
 func Total(n int) bool { return within(n, 1, api.MaxTotal) }
+
+// Version tells whether there was a version of that number, where last is the newest one's, or 0.
+func Version(n, last int) bool { return within(n, 1, last) }

@@ -20,6 +20,7 @@ func TestNumbers(t *testing.T) {
 		{"Width", Width, 1, 32},
 		{"Four", Four, 0, 4294967295},
 		{"Bits", Bits, 0, 37},
+		{"Key", Key, 1, 4},
 		{"Length", Length, 0, 20},
 		{"Steps", Steps, 0, 37},
 		{"Side", Side, 0, 1},
@@ -53,6 +54,21 @@ func TestPath(t *testing.T) {
 	} {
 		if got := Path(s); got != want {
 			t.Errorf("Path(%q) = %v", s, got)
+		}
+	}
+}
+
+func TestVersion(t *testing.T) {
+	for _, last := range []int{1, 2, 7} {
+		for n, want := range edges(1, last) {
+			if got := Version(n, last); got != want {
+				t.Errorf("Version(%d, %d) = %v", n, last, got)
+			}
+		}
+	}
+	for _, n := range []int{math.MinInt, -1, 0, 1, 2, math.MaxInt} {
+		if Version(n, 0) {
+			t.Errorf("Version(%d, 0) holds", n)
 		}
 	}
 }

@@ -8,9 +8,6 @@ import (
 	"twig/wire"
 )
 
-// Store is keys and values, in versions.
-type Store struct{}
-
 // Import takes chunks in.
 type Import struct{}
 
@@ -57,33 +54,6 @@ func DecodeManifest(b string) (api.Manifest, api.Errno) {
 	m, err := wire.DecodeManifest(b)
 	return m, errno(err)
 }
-
-// New makes an empty store (P5).
-func New(width int) (*Store, api.Errno) { return nil, api.OK }
-
-// Set gives a key a value (P6).
-func (s *Store) Set(key string, value string) api.Errno { return api.OK }
-
-// Delete takes a key's value away (P6).
-func (s *Store) Delete(key string) api.Errno { return api.OK }
-
-// Get tells a key's value (P6).
-func (s *Store) Get(key string) (string, api.Errno) { return "", api.OK }
-
-// Commit makes a version (P7).
-func (s *Store) Commit() (int, int, api.Errno) { return 0, 0, api.OK }
-
-// Load goes back to a version (P7).
-func (s *Store) Load(version int) api.Errno { return api.OK }
-
-// Prune forgets a version (P7).
-func (s *Store) Prune(version int) api.Errno { return api.OK }
-
-// Root tells a version's root (P8).
-func (s *Store) Root(version int) (int, api.Errno) { return 0, api.OK }
-
-// Walk tells a version's keys and values (P8).
-func (s *Store) Walk(version int) ([]api.Pair, api.Errno) { return nil, api.OK }
 
 // Prove makes a program that proves what a key has (P9).
 func (s *Store) Prove(version int, key string) (string, api.Errno) { return "", api.OK }

@@ -11,6 +11,11 @@ func EncodeNode(n api.Node) (string, error) {
 	if err := checkNode(n); err != nil {
 		return "", at("node", err)
 	}
+	return Node(n), nil
+}
+
+// Node leaves it to the caller that the node has bytes, as each of a tree has.
+func Node(n api.Node) string {
 	out := []byte{byte(n.Kind)}
 	switch n.Kind {
 	case api.Leaf:
@@ -18,7 +23,7 @@ func EncodeNode(n api.Node) (string, error) {
 	case api.Branch:
 		out = addFour(addFour(addPath(out, n.Path), n.Left), n.Right)
 	}
-	return string(out), nil
+	return string(out)
 }
 
 // checkNode holds the node against one that has only what its kind has: so nothing else is left in it.
