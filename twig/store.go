@@ -11,7 +11,7 @@ import (
 	"twig/tree"
 )
 
-// Store is keys and values, in versions.
+// Store is keys and values, in versions. Its base stays when the version is pruned: it is what there is now, but for the changes.
 type Store struct {
 	width    int
 	base     *tree.Node        // the version that was made or loaded last
@@ -111,7 +111,7 @@ func (c change) in(root *tree.Node, bits string) *tree.Node {
 	return root.Without(bits)
 }
 
-// begin has no changes yet.
+// begin leaves nothing of the changes: they were of the base before.
 func (s *Store) begin(base *tree.Node) {
 	s.base = base
 	clear(s.changes)
