@@ -39,10 +39,11 @@ func (n *Node) moved(path string) *Node {
 	return &Node{kind: n.kind, path: path, value: n.value, sides: n.sides}
 }
 
-func sign(side int) string { return signs[side : side+1] }
+// Sign is the bit that leads to that side of a branch.
+func Sign(side int) string { return signs[side : side+1] }
 
-// sideOf is the side of a branch to which the bits lead.
-func sideOf(bits string) int { return int(bits[0] - signs[0]) }
+// SideOf is the side of a branch to which the bits lead, of which there must be one.
+func SideOf(bits string) int { return int(bits[0] - signs[0]) }
 
 // shared is with how many bits both begin.
 func shared(a, b string) int {
@@ -61,13 +62,13 @@ func (n *Node) With(bits, value string) *Node {
 	common := shared(n.path, bits)
 	if common < len(n.path) {
 		parted := bits[common:]
-		return branch(bits[:common], sideOf(parted), leaf(parted[1:], value), n.moved(n.path[common+1:]))
+		return branch(bits[:common], SideOf(parted), leaf(parted[1:], value), n.moved(n.path[common+1:]))
 	}
 	if n.kind == api.Leaf {
 		return leaf(bits, value)
 	}
 	rest := bits[common:]
-	side := sideOf(rest)
+	side := SideOf(rest)
 	return branch(n.path, side, n.sides[side].With(rest[1:], value), n.sides[1-side])
 }
 
@@ -77,25 +78,42 @@ func (n *Node) Without(bits string) *Node {
 		return Empty()
 	}
 	rest := bits[len(n.path):]
-	side := sideOf(rest)
+	side := SideOf(rest)
 	below, other := n.sides[side].Without(rest[1:]), n.sides[1-side]
 	if below.kind == api.Empty {
 		// A branch has a key on either side: where there is none left, the other side takes its place.
-		return other.moved(n.path + sign(1-side) + other.path)
+		return other.moved(n.path + Sign(1-side) + other.path)
 	}
 	return branch(n.path, side, below, other)
 }
 
 // Find goes down as the bits say, as far as they lead: to the bottom, and the bits that are left there.
 func (n *Node) Find(bits string) (*Node, string) {
-	for n.kind == api.Branch {
-		rest, begins := strings.CutPrefix(bits, n.path)
-		if !begins {
-			break
-		}
-		n, bits = n.sides[sideOf(rest)], rest[1:]
+	for n.leads(bits) {
+		n, bits = n.below(bits)
 	}
 	return n, bits
+}
+
+// Way is the nodes that Find meets, from the root to the bottom, as they are written: the tree must be sealed.
+func (n *Node) Way(bits string) []api.Node {
+	list := []api.Node{n.told()}
+	for n.leads(bits) {
+		n, bits = n.below(bits)
+		list = append(list, n.told())
+	}
+	return list
+}
+
+// leads tells whether the bits go on below the node.
+func (n *Node) leads(bits string) bool {
+	return n.kind == api.Branch && strings.HasPrefix(bits, n.path)
+}
+
+// below finds a bit behind the path: a key whose bits end there would be one with which others begin.
+func (n *Node) below(bits string) (*Node, string) {
+	rest := bits[len(n.path):]
+	return n.sides[SideOf(rest)], rest[1:]
 }
 
 // Get is the key's value, and whether it has one.
@@ -118,7 +136,7 @@ func (n *Node) walk(above string, list []api.Pair) []api.Pair {
 		list = append(list, api.Pair{Key: keys.Key(path), Value: strings.Clone(n.value)})
 	case api.Branch:
 		for side, below := range n.sides {
-			list = below.walk(path+sign(side), list)
+			list = below.walk(path+Sign(side), list)
 		}
 	}
 	return list

@@ -144,6 +144,35 @@ func TestFind(t *testing.T) {
 	}
 }
 
+// TestWay: the nodes that Find meets, the root first, with the digests of what is below them.
+func TestWay(t *testing.T) {
+	n := with(Empty(), "A", "x", "B", "y", "C", "z").Sealed(32)
+	right := n.sides[1]
+	for key, want := range map[string][]*Node{
+		"A":    {n, n.sides[0]},
+		"AA":   {n, n.sides[0]},
+		"B":    {n, right, right.sides[0]},
+		"C":    {n, right, right.sides[1]},
+		"E":    {n},
+		"\xff": {n},
+	} {
+		var told []api.Node
+		for _, m := range want {
+			told = append(told, m.told())
+		}
+		if got := n.Way(keys.Bits(key)); !slices.Equal(got, told) {
+			t.Errorf("Way of %q: %v, want %v", key, got, told)
+		}
+	}
+	top := api.Node{Kind: api.Branch, Path: "1010000", Left: n.sides[0].Digest(), Right: right.Digest()}
+	if got := n.Way(keys.Bits("A")); got[0] != top || got[1] != (api.Node{Path: "10", Value: "x"}) {
+		t.Errorf("Way of A: %v", got)
+	}
+	if got := Empty().Sealed(32).Way(keys.Bits("A")); !slices.Equal(got, []api.Node{{Kind: api.Empty}}) {
+		t.Errorf("Way in nothing: %v", got)
+	}
+}
+
 // TestOrders: the tree is one in whatever order its keys came, with others between that went again.
 func TestOrders(t *testing.T) {
 	list := []string{"A", "AA", "AAA", "AAAA", "B", "\x00", "\xff", "\xff\x00", "A\xff", "@", "\x80\x80"}

@@ -15,44 +15,65 @@ type model map[string]string
 
 func (m model) root(t *testing.T, width int) int {
 	t.Helper()
-	var list [][2]string
-	for _, key := range slices.Sorted(maps.Keys(m)) {
-		bits := ""
-		for _, b := range []byte(key) {
-			bits += fmt.Sprintf("1%08b", b)
-		}
-		list = append(list, [2]string{bits + "0", m[key]})
-	}
-	return modelDigest(t, width, list)
+	return nodeDigest(t, width, m.tree(t, width).n)
 }
 
-// modelDigest is of the tree of the bits with values, in their order.
-func modelDigest(t *testing.T, width int, list [][2]string) int {
+func modelBits(key string) string {
+	bits := ""
+	for _, b := range []byte(key) {
+		bits += fmt.Sprintf("1%08b", b)
+	}
+	return bits + "0"
+}
+
+func nodeDigest(t *testing.T, width int, n api.Node) int {
 	t.Helper()
-	n := emptyNode()
-	if len(list) == 1 {
-		n = api.Node{Kind: api.Leaf, Path: list[0][0], Value: list[0][1]}
-	}
-	if len(list) > 1 {
-		path := list[0][0]
-		for _, l := range list {
-			for !strings.HasPrefix(l[0], path) {
-				path = path[:len(path)-1]
-			}
-		}
-		var sides [2][][2]string
-		for _, l := range list {
-			side := l[0][len(path)] - '0'
-			sides[side] = append(sides[side], [2]string{l[0][len(path)+1:], l[1]})
-		}
-		n = api.Node{Kind: api.Branch, Path: path, Left: modelDigest(t, width, sides[0]), Right: modelDigest(t, width, sides[1])}
-	}
 	b, e := EncodeNode(n)
 	d, f := Digest(width, b)
 	if e != api.OK || f != api.OK {
 		t.Fatalf("of %v: %d, %d", n, e, f)
 	}
 	return d
+}
+
+// modelNode is a node, and the two of which a branch has the digests.
+type modelNode struct {
+	n     api.Node
+	sides [2]*modelNode
+}
+
+func (m model) tree(t *testing.T, width int) *modelNode {
+	t.Helper()
+	var list [][2]string
+	for _, key := range slices.Sorted(maps.Keys(m)) {
+		list = append(list, [2]string{modelBits(key), m[key]})
+	}
+	return modelTree(t, width, list)
+}
+
+// modelTree is the tree of the bits with values, in their order.
+func modelTree(t *testing.T, width int, list [][2]string) *modelNode {
+	t.Helper()
+	switch len(list) {
+	case 0:
+		return &modelNode{n: emptyNode()}
+	case 1:
+		return &modelNode{n: api.Node{Kind: api.Leaf, Path: list[0][0], Value: list[0][1]}}
+	}
+	path := list[0][0]
+	for _, l := range list {
+		for !strings.HasPrefix(l[0], path) {
+			path = path[:len(path)-1]
+		}
+	}
+	var sides [2][][2]string
+	for _, l := range list {
+		side := l[0][len(path)] - '0'
+		sides[side] = append(sides[side], [2]string{l[0][len(path)+1:], l[1]})
+	}
+	left, right := modelTree(t, width, sides[0]), modelTree(t, width, sides[1])
+	n := api.Node{Kind: api.Branch, Path: path, Left: nodeDigest(t, width, left.n), Right: nodeDigest(t, width, right.n)}
+	return &modelNode{n, [2]*modelNode{left, right}}
 }
 
 func (m model) pairs() []api.Pair {

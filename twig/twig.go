@@ -55,19 +55,6 @@ func DecodeManifest(b string) (api.Manifest, api.Errno) {
 	return m, errno(err)
 }
 
-// Prove makes a program that proves what a key has (P9).
-func (s *Store) Prove(version int, key string) (string, api.Errno) { return "", api.OK }
-
-// Verify runs a program (P10).
-func Verify(width int, root int, key string, there bool, value string, program string) api.Errno {
-	return api.OK
-}
-
-// Collide finds two texts with one digest, where a program proves what is not so (P11).
-func (s *Store) Collide(version int, key string, program string) (string, string, api.Errno) {
-	return "", "", api.OK
-}
-
 // Export tells a version as a manifest and chunks (P12).
 func (s *Store) Export(version int, size int) (string, []string, api.Errno) { return "", nil, api.OK }
 

@@ -9,22 +9,35 @@ import (
 
 // EncodeProof writes a proof.
 func EncodeProof(p api.Proof) (string, error) {
-	bottom, err := EncodeNode(p.Bottom)
-	if err != nil {
-		return "", at("proof: bottom", err)
+	if err := checkProof(p); err != nil {
+		return "", at("proof", err)
 	}
-	if !bounds.Steps(len(p.Ups)) {
-		return "", at("proof: number of steps", ErrNoBytes)
-	}
-	out := addNumber(addText(nil, bottom), len(p.Ups))
-	for i, up := range p.Ups {
-		if err := checkUp(up); err != nil {
-			return "", at("proof: step "+strconv.Itoa(i), err)
-		}
+	return Proof(p), nil
+}
+
+// Proof leaves it to the caller that the proof has bytes, as each that is made of a tree has.
+func Proof(p api.Proof) string {
+	out := addNumber(addText(nil, Node(p.Bottom)), len(p.Ups))
+	for _, up := range p.Ups {
 		out = append(out, byte(up.Side))
 		out = addFour(addPath(out, up.Path), up.Other)
 	}
-	return string(out), nil
+	return string(out)
+}
+
+func checkProof(p api.Proof) error {
+	if err := checkNode(p.Bottom); err != nil {
+		return at("bottom", at("node", err))
+	}
+	if !bounds.Steps(len(p.Ups)) {
+		return at("number of steps", ErrNoBytes)
+	}
+	for i, up := range p.Ups {
+		if err := checkUp(up); err != nil {
+			return at("step "+strconv.Itoa(i), err)
+		}
+	}
+	return nil
 }
 
 func checkUp(up api.Up) error {
