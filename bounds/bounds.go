@@ -45,3 +45,6 @@ func Total(n int) bool { return within(n, 1, api.MaxTotal) }
 
 // Version tells whether there was a version of that number, where last is the newest one's, or 0.
 func Version(n, last int) bool { return within(n, 1, last) }
+
+// Index tells whether there is one of that number, from 0 on, of so many.
+func Index(n, count int) bool { return within(n, 0, count-1) }

@@ -72,3 +72,18 @@ func TestVersion(t *testing.T) {
 		}
 	}
 }
+
+func TestIndex(t *testing.T) {
+	for _, count := range []int{1, 2, 12500} {
+		for n, want := range edges(0, count-1) {
+			if got := Index(n, count); got != want {
+				t.Errorf("Index(%d, %d) = %v", n, count, got)
+			}
+		}
+	}
+	for _, n := range []int{math.MinInt, -1, 0, 1, math.MaxInt} {
+		if Index(n, 0) {
+			t.Errorf("Index(%d, 0) holds", n)
+		}
+	}
+}

@@ -1,6 +1,8 @@
 // Package keys writes keys as bits, and reads them back.
 package keys
 
+import "twig/bounds"
+
 // each is how many bits a byte of a key makes: a 1, and its own eight.
 const each = 9
 
@@ -31,4 +33,10 @@ func single(bits string) byte {
 		b = b<<1 | (bits[i] - '0')
 	}
 	return b
+}
+
+// Are tells whether the bits are a key's: what is read from them has these bits alone.
+func Are(bits string) bool {
+	key := Key(bits)
+	return bounds.Key(len(key)) && Bits(key) == bits
 }

@@ -62,3 +62,26 @@ func TestOrder(t *testing.T) {
 		}
 	}
 }
+
+// TestAre: the bits of keys, and what is near them: a bit more, a bit less, another bit.
+func TestAre(t *testing.T) {
+	known := map[string]bool{}
+	for _, key := range some() {
+		known[Bits(key)] = true
+	}
+	for bits := range known {
+		if !Are(bits) {
+			t.Errorf("%s are no key's", bits)
+		}
+	}
+	long := strings.Repeat("1", 36)
+	for _, bits := range []string{
+		"", "0", "1", "00", "10", "0000000000", "0010000010", "1010000011", "101000001", "10100000", "10100000100", "01010000010",
+		"101000001101000001", "1010000011010000010" + "0", "1010000010010000010", "1010000011010000011",
+		long, long + "1", long + "00", long + long + "0", long + "1111111110", long + "11111111" + "0", "1" + long + "0",
+	} {
+		if Are(bits) {
+			t.Errorf("%s are taken for a key's", bits)
+		}
+	}
+}

@@ -2,6 +2,7 @@
 package tree
 
 import (
+	"iter"
 	"strings"
 
 	"twig/api"
@@ -140,4 +141,21 @@ func (n *Node) walk(above string, list []api.Pair) []api.Pair {
 		}
 	}
 	return list
+}
+
+// Nodes is all nodes as they are written, what is below a node ahead of it, the left side ahead of the right one: the tree must be sealed.
+func (n *Node) Nodes() iter.Seq[api.Node] {
+	return func(yield func(api.Node) bool) { n.each(yield) }
+}
+
+// each tells whether to go on.
+func (n *Node) each(yield func(api.Node) bool) bool {
+	if n.kind == api.Branch {
+		for _, below := range n.sides {
+			if !below.each(yield) {
+				return false
+			}
+		}
+	}
+	return yield(n.told())
 }

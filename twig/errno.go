@@ -4,6 +4,7 @@ import (
 	"errors"
 
 	"twig/api"
+	"twig/chunks"
 	"twig/wire"
 )
 
@@ -37,4 +38,21 @@ func wrongBytes(err error) bool {
 		return true
 	}
 	return false
+}
+
+// importErrno leaves ErrTree to all else that chunks can be together: they are no tree, whether by their bytes or by their nodes.
+func importErrno(err error) api.Errno {
+	switch {
+	case err == nil:
+		return api.OK
+	case errors.Is(err, chunks.ErrIndex):
+		return api.ErrIndex
+	case errors.Is(err, chunks.ErrLength), errors.Is(err, chunks.ErrDigest):
+		return api.ErrChunk
+	case errors.Is(err, chunks.ErrMissing):
+		return api.ErrMore
+	case errors.Is(err, chunks.ErrRoot):
+		return api.ErrRoot
+	}
+	return api.ErrTree
 }

@@ -31,12 +31,16 @@ func New(width int) (*Store, api.Errno) {
 	if !bounds.Width(width) {
 		return nil, api.ErrWidth
 	}
+	return fresh(width), api.OK
+}
+
+func fresh(width int) *Store {
 	return &Store{
 		width:    width,
 		base:     tree.Empty(),
 		changes:  map[string]change{},
 		versions: map[int]*tree.Node{},
-	}, api.OK
+	}
 }
 
 // Set gives a key a value (P6).
@@ -97,10 +101,15 @@ func (s *Store) Commit() (int, int, api.Errno) {
 	for _, key := range slices.Sorted(maps.Keys(s.changes)) {
 		root = s.changes[key].in(root, keys.Bits(key))
 	}
-	s.begin(root.Sealed(s.width))
-	s.newest++
-	s.versions[s.newest] = s.base
+	s.keep(root.Sealed(s.width))
 	return s.newest, s.base.Digest(), api.OK
+}
+
+// keep makes a version of a tree that is sealed.
+func (s *Store) keep(root *tree.Node) {
+	s.begin(root)
+	s.newest++
+	s.versions[s.newest] = root
 }
 
 // in is the tree in which the key has what the change tells.

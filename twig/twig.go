@@ -8,9 +8,6 @@ import (
 	"twig/wire"
 )
 
-// Import takes chunks in.
-type Import struct{}
-
 // Digest is the digest of some bytes (P3).
 func Digest(width int, b string) (int, api.Errno) {
 	if !bounds.Width(width) {
@@ -54,15 +51,3 @@ func DecodeManifest(b string) (api.Manifest, api.Errno) {
 	m, err := wire.DecodeManifest(b)
 	return m, errno(err)
 }
-
-// Export tells a version as a manifest and chunks (P12).
-func (s *Store) Export(version int, size int) (string, []string, api.Errno) { return "", nil, api.OK }
-
-// NewImport begins to take chunks in (P13).
-func NewImport(manifest string) (*Import, api.Errno) { return nil, api.OK }
-
-// Offer hands a chunk in (P13).
-func (i *Import) Offer(index int, chunk string) api.Errno { return api.OK }
-
-// Finish makes a store of the chunks (P14).
-func (i *Import) Finish() (*Store, api.Errno) { return nil, api.OK }

@@ -15,12 +15,17 @@ func EncodeManifest(m api.Manifest) (string, error) {
 	if err := checkManifest(m); err != nil {
 		return "", at("manifest", err)
 	}
+	return Manifest(m), nil
+}
+
+// Manifest leaves it to the caller that the manifest has bytes, as each that is made of a tree and its chunks has.
+func Manifest(m api.Manifest) string {
 	out := addFour([]byte{byte(m.Width)}, m.Root)
 	out = addNumber(addNumber(out, m.Size), m.Total)
 	for _, d := range m.Digests {
 		out = addFour(out, d)
 	}
-	return string(out), nil
+	return string(out)
 }
 
 // checkManifest asks for the size ahead of the number of digests: there is no dividing by 0.

@@ -1,4 +1,4 @@
-// Package wire writes nodes, proofs and manifests as bytes, and reads them back. What is written has one form only: what is not just that form is refused.
+// Package wire writes nodes, proofs, manifests and streams of nodes as bytes, and reads them back. What is written has one form only: what is not just that form is refused.
 package wire
 
 import (
@@ -108,4 +108,17 @@ func (r *reader) branch() (api.Node, error) {
 		return api.Node{}, at("right", err)
 	}
 	return api.Node{Kind: api.Branch, Path: path, Left: left, Right: right}, nil
+}
+
+// sized is a node with the number of its bytes ahead of it.
+func (r *reader) sized() (api.Node, error) {
+	count, err := r.number()
+	if err != nil {
+		return api.Node{}, at("number of bytes", err)
+	}
+	b, err := r.take(count)
+	if err != nil {
+		return api.Node{}, at("bytes", err)
+	}
+	return DecodeNode(b)
 }

@@ -66,7 +66,7 @@ func DecodeProof(b string) (api.Proof, error) {
 }
 
 func (r *reader) proof() (api.Proof, error) {
-	bottom, err := r.bottom()
+	bottom, err := r.sized()
 	if err != nil {
 		return api.Proof{}, at("bottom", err)
 	}
@@ -84,18 +84,6 @@ func (r *reader) proof() (api.Proof, error) {
 		}
 	}
 	return api.Proof{Bottom: bottom, Ups: ups}, nil
-}
-
-func (r *reader) bottom() (api.Node, error) {
-	count, err := r.number()
-	if err != nil {
-		return api.Node{}, at("number of bytes", err)
-	}
-	b, err := r.take(count)
-	if err != nil {
-		return api.Node{}, at("bytes", err)
-	}
-	return DecodeNode(b)
 }
 
 func (r *reader) up() (api.Up, error) {

@@ -3,6 +3,7 @@ package wire
 import (
 	"encoding/hex"
 	"errors"
+	"slices"
 	"strings"
 	"testing"
 
@@ -29,6 +30,11 @@ func proof(b string) error {
 
 func manifest(b string) error {
 	_, err := DecodeManifest(b)
+	return err
+}
+
+func stream(b string) error {
+	_, err := DecodeStream(b)
 	return err
 }
 
@@ -105,11 +111,28 @@ func manifestWays() []wayCase {
 	}
 }
 
+func streamWays() []wayCase {
+	return []wayCase{
+		{"01 02 00", ErrShort, "stream: number 1: node: kind"},
+		{"02 02", ErrShort, "stream: number 0: bytes"},
+		{"01 02 01 02 01", ErrShort, "stream: number 2: bytes"},
+		{"80", ErrShort, "stream: number 0: number of bytes"},
+		{"01 02 81 00 02", ErrLong, "stream: number 1: number of bytes"},
+		{"80 80 80 80 01", ErrBig, "stream: number 0: number of bytes"},
+		{"ff ff ff 7f 02", ErrShort, "stream: number 0: bytes"},
+		{"02 02 00", ErrOver, "stream: number 0: node: end"},
+		{"01 02 01 03", ErrKind, "stream: number 1: node: kind"},
+		{"06 00 0a a0 81 01 78", ErrPadding, "stream: number 0: node: path: bits"},
+		{"18 00 00 15" + strings.Repeat("76", 21), ErrValue, "stream: number 0: node: value: number of bytes"},
+	}
+}
+
 // TestWays: for each way in which bytes can be wrong its own error, and where it was met.
 func TestWays(t *testing.T) {
 	wayTest(t, node, nodeWays())
 	wayTest(t, proof, proofWays())
 	wayTest(t, manifest, manifestWays())
+	wayTest(t, stream, streamWays())
 }
 
 func wayTest(t *testing.T, decode func(string) error, cases []wayCase) {
@@ -180,6 +203,51 @@ func TestChunks(t *testing.T) {
 	for _, c := range [][3]int{{1, 8, 1}, {8, 8, 1}, {9, 8, 2}, {16, 8, 2}, {300, 128, 3}, {100000, 8, 12500}, {100000, 999, 101}, {100000, 1000, 100}} {
 		if got := Chunks(c[0], c[1]); got != c[2] {
 			t.Errorf("Chunks(%d, %d) = %d, want %d", c[0], c[1], got, c[2])
+		}
+	}
+}
+
+// TestStream: nodes one behind the other, whatever they are together.
+func TestStream(t *testing.T) {
+	leaf, branch := api.Node{Path: "10", Value: "x"}, api.Node{Kind: api.Branch, Path: "101", Left: 5, Right: 6}
+	for _, c := range []struct {
+		nodes []api.Node
+		b     string
+	}{
+		{nil, ""},
+		{[]api.Node{{Kind: api.Empty}}, "01 02"},
+		{[]api.Node{leaf}, "05 00 02 80 01 78"},
+		{[]api.Node{branch, leaf, {Kind: api.Empty}, leaf}, "0b 01 03 a0 00 00 00 05 00 00 00 06 05 00 02 80 01 78 01 02 05 00 02 80 01 78"},
+	} {
+		if b, err := Stream(slices.Values(c.nodes)); b != hx(c.b) || err != nil {
+			t.Errorf("Stream(%v) = %x, %v, want %s", c.nodes, b, err, c.b)
+		}
+		if nodes, err := DecodeStream(hx(c.b)); !slices.Equal(nodes, c.nodes) || err != nil {
+			t.Errorf("DecodeStream(%s) = %v, %v, want %v", c.b, nodes, err, c.nodes)
+		}
+	}
+}
+
+// TestLongStream: just as many bytes as all chunks may have, and more; then no node is asked for any more.
+func TestLongStream(t *testing.T) {
+	empties := func(count int, asked *int) func(func(api.Node) bool) {
+		return func(yield func(api.Node) bool) {
+			for *asked = 0; *asked < count; *asked++ {
+				if !yield(api.Node{Kind: api.Empty}) {
+					return
+				}
+			}
+		}
+	}
+	const most = api.MaxTotal / 2
+	var asked int
+	if b, err := Stream(empties(most, &asked)); b != strings.Repeat("\x01\x02", most) || err != nil {
+		t.Errorf("of %d nodes: %d bytes, %v", most, len(b), err)
+	}
+	for _, more := range []int{1, 2, most} {
+		b, err := Stream(empties(most+more, &asked))
+		if b != "" || !errors.Is(err, ErrNoBytes) || err.Error() != "stream: it has no bytes" || asked != most {
+			t.Errorf("of %d nodes: %d bytes, %v, and %d nodes are asked for", most+more, len(b), err, asked)
 		}
 	}
 }
